@@ -1,0 +1,1 @@
+"""Makes: files kept for years by programs of many makes."""
