@@ -48,24 +48,23 @@ def is_item(thing):
 
 
 def count_of(item):
-    many = 0
-    level = [item]
-    while level:
-        many = many + len(level)
-        level = level_below(level)
-    return many
+    return sum([len(level) for level in levels_of(item)])
 
 
 def deep_of(item):
-    deep = 0
-    level = [item]
-    while level:
-        deep = deep + 1
-        level = level_below(level)
-    return deep
+    return len(levels_of(item))
 
 
 # Items are gone through level by level: so how deep they are is no matter for Python's own calls.
+def levels_of(item):
+    levels = []
+    level = [item]
+    while level:
+        levels.append(level)
+        level = level_below(level)
+    return levels
+
+
 def level_below(level):
     below = []
     for item in level:
