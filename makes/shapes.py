@@ -4,6 +4,9 @@ from makes.items import LONGEST_TEXT, is_item_whole, is_name, is_number, is_text
 
 MOST_PARTS = 20
 MOST_FIELDS = 8
+ITEM_SORTS = {
+    "whole": "whole", "truth": "whole", "text": "text", "row": "row", "map": "map", "record": "rec", "choice": "arm",
+}
 
 
 def is_shape(thing):
@@ -69,3 +72,25 @@ def is_single_value(shape, thing):
     if shape[0] == "truth":
         return isinstance(thing, bool)
     return shape[0] == "text" and is_text(thing, shape[1])
+
+
+# The sort of the items that the values of a form are written as.
+def item_sort(shape):
+    return ITEM_SORTS[shape[0]]
+
+
+# The least and the greatest number that a whole or truth form allows.
+def bounds_of(shape):
+    return (0, 1) if shape[0] == "truth" else (shape[1], shape[2])
+
+
+# The field or the arm of this number, or None.
+def member_of(shape, number):
+    for member in shape[1]:
+        if member[0] == number:
+            return member
+    return None
+
+
+def may_be_left_out(field):
+    return field[3] != ()

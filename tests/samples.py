@@ -9,6 +9,18 @@ WRONG_THINGS = [
     (None,), (1, 2), [("whole", 0)], {"whole": 0}, {(): ()},
 ]
 
+# Forms of each sort.
+FORMS = {
+    "n": ("whole", -5, 70),
+    "t": ("truth",),
+    "s": ("text", 4),
+    "r": ("row", "n", 3),
+    "m": ("map", "t", 2),
+    "rec": ("record", ((3, "zz", "n", (7,)), (5, "b", "t", ()), (9, "aa", "r", ((),))), (1, 4)),
+    "shut": ("choice", ((1, "a", "n"), (4, "b", "rec")), (7,), False),
+    "wide": ("choice", ((1, "a", "n"), (4, "b", "shut")), (7,), True),
+}
+MAKE = ("rec", FORMS)
 
 
 def nested(thing, wraps, many):

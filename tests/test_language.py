@@ -191,6 +191,17 @@ class Names(unittest.TestCase):
             if isinstance(node, ast.arg):
                 self.assertNotIn(given, dir(builtins), name)
 
+    def test_locals_are_called_like_no_class_or_import(self):
+        for name, tree in trees().items():
+            taken = {alias.asname or alias.name for node in tree.body if isinstance(node, ast.ImportFrom)
+                     for alias in node.names}
+            taken |= {node.name for node in tree.body if isinstance(node, ast.ClassDef)}
+            for node in ast.walk(tree):
+                if isinstance(node, ast.arg):
+                    self.assertNotIn(node.arg, taken, name)
+                if isinstance(node, ast.Name) and isinstance(node.ctx, ast.Store):
+                    self.assertNotIn(node.id, taken, (name, node.lineno))
+
     def test_methods(self):
         own = {part.name for name, node in nodes(ast.ClassDef) for part in node.body if isinstance(part, ast.FunctionDef)}
         for name, node in nodes(ast.Call):

@@ -2,12 +2,12 @@
 
 import copy
 import itertools
-import random
 import unittest
 
 from makes.errors import BadText
 from makes.forms import is_make
 from makes.maketexts import read_make, shown_make
+from tests.drawing import great_makes
 from tests.samples import ALL_SIGNS
 
 MOST = 10 ** 18
@@ -55,55 +55,8 @@ LINES = [
     "form s text 200",
     "form t truth",
 ]
-
-
-def some_makes():
-    rng = random.Random(41)
-    makes = [MAKE, ("a", {"a": ("truth",)}), ("z", {"a": ("truth",), "z": ("record", (), ()), "b": ("text", 0)})]
-    for turn in range(100):
-        names = rng.sample(["a", "ab", "b", "make", "form", "field", "struck", "zzzzzzzz"], rng.randint(1, 8))
-        forms = {name: random_shape(rng, names) for name in names}
-        make = (rng.choice(names), {name: with_defaults(rng, shape, forms) for name, shape in forms.items()})
-        assert is_make(make), make
-        makes.append(make)
-    return makes
-
-
-def random_shape(rng, names):
-    sort = rng.choice(["whole", "truth", "text", "row", "map", "record", "choice"])
-    if sort == "whole":
-        return (sort,) + tuple(sorted(rng.choice([0, 1, -1, 77, -300, MOST, -MOST]) for bound in range(2)))
-    if sort == "truth":
-        return (sort,)
-    if sort == "text":
-        return (sort, rng.choice([0, 1, 9, 10, 200]))
-    if sort in ("row", "map"):
-        return (sort, rng.choice(names), rng.choice([0, 1, 9, 10, 20]))
-    numbers = rng.sample([1, 2, 9, 10, 99, 100, 500, 998, 999], rng.randint(0, 9))
-    some = sorted(numbers[:8 - len(numbers) // 2])
-    members = tuple((number, "n" + letter, rng.choice(names)) for number, letter in zip(some, "hgfedcba"))
-    struck = tuple(sorted(numbers[8 - len(numbers) // 2:]))
-    if sort == "choice":
-        return (sort, members, struck, rng.choice([True, False]))
-    return (sort, tuple(member + ((),) for member in members), struck)
-
-
-def with_defaults(rng, shape, forms):
-    if shape[0] != "record":
-        return shape
-    return (shape[0], tuple(field[:3] + (some_default(rng, forms[field[2]]),) for field in shape[1]), shape[2])
-
-
-def some_default(rng, shape):
-    if rng.random() < 0.3 or shape[0] in ("record", "choice"):
-        return ()
-    if shape[0] == "whole":
-        return (rng.choice([shape[1], shape[2]]),)
-    if shape[0] == "truth":
-        return (rng.choice([True, False]),)
-    if shape[0] == "text":
-        return ("".join(rng.choice(ALL_SIGNS + " " * 60) for place in range(rng.randint(0, shape[1]))),)
-    return ((),)
+SOME_MAKES = [MAKE, ("a", {"a": ("truth",)}), ("z", {"a": ("truth",), "z": ("record", (), ()), "b": ("text", 0)})]
+SOME_MAKES.extend(great_makes(41, 100))
 
 
 class Shown(unittest.TestCase):
@@ -165,7 +118,7 @@ class Read(unittest.TestCase):
 
     def test_the_make_again(self):
         self.read(LINES, MAKE)
-        for make in some_makes():
+        for make in SOME_MAKES:
             lines = shown_make(make)
             self.read(lines, make)
             self.assertEqual(shown_make(read_make(lines)), lines)
@@ -175,7 +128,7 @@ class Read(unittest.TestCase):
         self.assertIsInstance(told, tuple)
         self.assertIsInstance(told[1], dict)
         self.assertIs(is_make(told), True)
-        for make in some_makes():
+        for make in SOME_MAKES:
             self.assertIs(is_make(read_make(shown_make(make))), True)
 
     def test_what_is_told_is_the_askers_own(self):
