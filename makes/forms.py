@@ -24,6 +24,10 @@ def sort_of(make, name):
     return form_of(make, name)[0]
 
 
+def is_form(make, thing):
+    return is_name(thing) and thing in make[1]
+
+
 def are_forms(thing):
     if not isinstance(thing, dict) or not 1 <= len(thing) <= MOST_FORMS:
         return False

@@ -2,7 +2,8 @@
 
 import random
 
-from makes.forms import is_make
+from makes.forms import fits_default, is_make
+from makes.shapes import is_shape
 from tests.samples import ALL_SIGNS, random_item
 
 MOST = 10 ** 18
@@ -51,8 +52,8 @@ def small_make(rng):
     return right_make("a", {name: with_defaults(rng, shape, forms) for name, shape in forms.items()})
 
 
-def small_shape(rng, names):
-    sort = rng.choice(SORTS + ["record", "choice"])
+def small_shape(rng, names, sort=None):
+    sort = sort or rng.choice(SORTS + ["record", "choice"])
     if sort == "whole":
         return (sort,) + tuple(sorted(rng.choice([-1, 0, 0, 1, 1, 2]) for bound in range(2)))
     if sort == "truth":
@@ -188,3 +189,115 @@ def variants(rng, thing):
             for other in rng.sample(variants(rng, part), 6):
                 told.append(thing[:place] + (other,) + thing[place + 1:])
     return told
+
+
+def make_pairs(seed, many):
+    """Tuples of two makes: the same, turned in one thing, in some, in many, or two of their own."""
+    rng = random.Random(seed)
+    for turn in range(many):
+        draw = small_make if turn % 3 == 0 else linked_make
+        make = draw(rng)
+        other = draw(rng) if turn % 7 == 0 else make
+        for edit in range(turn % 7):
+            other = turned_make(rng, other, turned_shape if rng.random() < 0.2 else grown_shape)
+        yield make, renamed(rng, other)
+
+
+def linked_make(rng):
+    """Records, choices, rows and maps that go round among one another and end in single forms."""
+    names = list("abcdefg")[:rng.randint(4, 7)]
+    forms = {}
+    for name in names[:-3]:
+        forms[name] = small_shape(rng, names + names[-3:], rng.choice(["row", "map", "record", "record", "record", "choice"]))
+    for name, sort in zip(names[-3:], rng.sample(["whole", "truth", "text"], 3)):
+        forms[name] = small_shape(rng, names, sort)
+    return right_make("a", {name: with_defaults(rng, shape, forms) for name, shape in forms.items()})
+
+
+def renamed(rng, make):
+    """The forms have other names; the root may be any."""
+    names = dict(zip(sorted(make[1]), rng.sample(list("abcdefgh"), len(make[1]))))
+    forms = {}
+    for name, shape in make[1].items():
+        if shape[0] in ("row", "map"):
+            shape = (shape[0], names[shape[1]], shape[2])
+        elif shape[0] in ("record", "choice"):
+            members = tuple(member[:2] + (names[member[2]],) + member[3:] for member in shape[1])
+            shape = (shape[0], members) + shape[2:]
+        forms[names[name]] = shape
+    return right_make(names[make[0]], forms)
+
+
+def turned_make(rng, make, turned):
+    """A make with one thing turned, and the defaults that no longer fit."""
+    while True:
+        forms = dict(make[1])
+        name = rng.choice(sorted(forms) + [make[0]] * 3)
+        forms[name] = turned(rng, forms[name], sorted(forms))
+        if is_shape(forms[name]):
+            forms = {of: with_fitting_defaults(rng, shape, forms) for of, shape in forms.items()}
+            return right_make(make[0], forms)
+
+
+def with_fitting_defaults(rng, shape, forms):
+    if shape[0] != "record":
+        return shape
+    return (shape[0], tuple(field if fits_default(field, forms) else field[:3] + (some_default(rng, forms[field[2]]),)
+                            for field in shape[1]), shape[2])
+
+
+def turned_shape(rng, shape, names):
+    step = rng.choice([-1, 1])
+    if rng.random() < 0.05:
+        return small_shape(rng, names)
+    if shape[0] == "whole":
+        return rng.choice([("whole", shape[1] + step, shape[2]), ("whole", shape[1], shape[2] + step), ("truth",)])
+    if shape[0] == "truth":
+        return ("whole", rng.choice([-1, 0, 1]), rng.choice([1, 2]))
+    if shape[0] == "text":
+        return ("text", shape[1] + step)
+    if shape[0] in ("row", "map"):
+        return rng.choice([(shape[0], shape[1], shape[2] + step), (shape[0], rng.choice(names), shape[2])])
+    if shape[0] == "choice" and rng.random() < 0.3:
+        return shape[:3] + (not shape[3],)
+    return (shape[0], turned_members(rng, shape, names)) + shape[2:]
+
+
+def grown_shape(rng, shape, names):
+    """So that what was read before is likely to be read still."""
+    if shape[0] == "whole":
+        return rng.choice([("whole", shape[1] - 1, shape[2]), ("whole", shape[1], shape[2] + 1)])
+    if shape[0] == "truth":
+        return ("whole", rng.choice([-1, 0]), rng.choice([1, 2]))
+    if shape[0] in ("text", "row", "map"):
+        return shape[:-1] + (shape[-1] + 1,)
+    members = list(shape[1])
+    if shape[0] == "choice":
+        return ("choice", tuple(members), shape[2], True) if not shape[3] else shape[:1] + (tuple(members[1:]),) + shape[2:]
+    if members and rng.random() < 0.85:
+        place = rng.randrange(len(members))
+        field = members.pop(place)
+        if rng.random() < 0.8:
+            # This default fits no form, so that another one is drawn.
+            members.insert(place, field if field[3] else field[:3] + ((None,),))
+        return (shape[0], tuple(members), shape[2])
+    free = [number for number in range(1, 9) if number not in [field[0] for field in members] + list(shape[2])]
+    return (shape[0], tuple(sorted(members + [(free[0], "more" + rng.choice("abc"), rng.choice(names), (None,))],
+                                   key=lambda field: field[0])), shape[2])
+
+
+def turned_members(rng, shape, names):
+    members = list(shape[1])
+    place = rng.randrange(len(members) + 1)
+    if place == len(members) or rng.random() < 0.2:
+        free = [number for number in range(1, 7) if number not in [member[0] for member in members] + list(shape[2])]
+        added = (free[0] if free else 99, "more", rng.choice(names))
+        return tuple(sorted(members + [added + ((),) if shape[0] == "record" else added]))
+    member = members.pop(place)
+    if rng.random() < 0.3:
+        return tuple(members)
+    if shape[0] == "choice" or rng.random() < 0.3:
+        member = member[:2] + (rng.choice(names),) + member[3:]
+    else:
+        member = member[:3] + (rng.choice([(), (0,), (1,), (True,), (False,), ("",), ("a",), ((),)]),)
+    return tuple(sorted(members + [member]))

@@ -23,6 +23,18 @@ FORMS = {
 MAKE = ("rec", FORMS)
 
 
+def record(*ofs, left_out=()):
+    """A record of fields that must be there, and of some that may be left out, each with a default."""
+    fields = tuple((number, "n" + letter, of, ()) for number, letter, of in zip(range(1, 9), "abcdefgh", ofs))
+    more = tuple((number, "m" + letter, of, (default,)) for number, letter, (of, default)
+                 in zip(range(len(ofs) + 1, 9), "abcdefgh", left_out))
+    return ("record", fields + more, ())
+
+
+def choice(*ofs, wide=False):
+    return ("choice", tuple((number, "n" + letter, of) for number, letter, of in zip(range(1, 9), "abcdefgh", ofs)), (), wide)
+
+
 def nested(thing, wraps, many):
     for place in range(many):
         thing = wraps[place % len(wraps)](thing)
