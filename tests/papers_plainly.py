@@ -3,6 +3,7 @@
 from makes.alike import tells_alike
 from makes.errors import BadItem
 from makes.reading import read
+from makes.values import is_own
 from makes.writing import written
 from tests.values_plainly import ITEM_SORTS, alike_plainly
 
@@ -194,3 +195,40 @@ def lessened_plainly(make, other, paper):
                 if (len(member) == 3 or member[3] == ()) and member[2] in paper[1]:
                     empties.add(member[2])
     return (tuple(sorted(pairs)), tuple(sorted(empties)))
+
+
+def knows_plainly(make, other, paper):
+    """Point 70: in each pair the one form is known."""
+    for w, r in paper[0]:
+        shape, other_shape = make[1][w], other[1][r]
+        if (shape[0], other_shape[0]) not in (("record", "record"), ("choice", "choice")):
+            continue
+        for number in set(by_number(shape)) - set(by_number(other_shape)):
+            member = by_number(shape)[number]
+            of = make[1][member[2]]
+            if shape[0] == "choice":
+                if member[2] not in paper[1]:
+                    return False
+            elif not member[3] or not (
+                    (of[0] == "whole" and of[1] == of[2]) or (of[0] == "text" and of[1] == 0)
+                    or (of[0] in ("row", "map") and (of[2] == 0 or of[1] in paper[1]))):
+                return False
+    return True
+
+
+def is_turned(make, other, value):
+    """Whether it is read to an own value that tells alike, and comes back."""
+    return is_kept(make, other, value) and is_own(other, other[0], read(other, other[0], written(make, make[0], value)))
+
+
+def turn_paper_plainly(make, other):
+    """All that is left when pairs that aren't right, kept and known are struck, with all empty forms."""
+    empties = empties_plainly(make)
+    pairs = set(all_pairs(make, other))
+    while True:
+        left = {pair for pair in pairs if right_pair_plainly(make, other, pairs, empties, pair)
+                and keeps_pair(make, other, (pairs, empties), pair[0], pair[1])
+                and knows_plainly(make, other, ((pair,), empties))}
+        if left == pairs:
+            return (tuple(sorted(pairs)), empties)
+        pairs = left
